@@ -1,0 +1,1 @@
+"""Rows of numbers modulo a small prime that shift registers make."""

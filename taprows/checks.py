@@ -1,0 +1,70 @@
+"""Which values are let for arguments, and the errors for all others."""
+
+from taprows.errors import BadBlock, BadLengths, BadNumber, BadPolynomial, BadPrime, BadRow, BadStart, BadTaps
+
+PRIMES = (2, 3, 5, 7)
+MOST_NUMBERS = 400
+MOST_COEFFICIENTS = 201
+MOST_TAPS = 60
+MOST_FOUND = 2000
+
+
+def is_between(value, least, most):
+    """Whether any value is an integer within these bounds; True and False are none."""
+    return isinstance(value, int) and not isinstance(value, bool) and least <= value <= most
+
+
+def are_numbers(prime, value, most):
+    """Whether any value is a tuple of at most so many numbers."""
+    if not isinstance(value, tuple) or len(value) > most:
+        return False
+    return all([is_between(number, 0, prime - 1) for number in value])
+
+
+def check_prime(value):
+    if not is_between(value, 2, 7) or value not in PRIMES:
+        raise BadPrime("a prime is one of 2, 3, 5, 7")
+
+
+def check_number(value, least, most):
+    if not is_between(value, least, most):
+        raise BadNumber(f"an integer from {least} to {most} is wanted")
+
+
+def check_row(prime, value):
+    if not are_numbers(prime, value, MOST_NUMBERS):
+        raise BadRow(f"a row is a tuple of at most {MOST_NUMBERS} numbers")
+
+
+def check_polynomial(prime, value):
+    if not are_numbers(prime, value, MOST_COEFFICIENTS) or value[-1:] == (0,):
+        raise BadPolynomial(f"a polynomial is a tuple of at most {MOST_COEFFICIENTS} numbers, the last one not 0")
+
+
+def check_taps(prime, value):
+    if not are_numbers(prime, value, MOST_TAPS):
+        raise BadTaps(f"taps are a tuple of at most {MOST_TAPS} numbers")
+
+
+def check_start(prime, taps, value):
+    if not are_numbers(prime, value, len(taps)) or len(value) < len(taps):
+        raise BadStart("a start is a tuple of as many numbers as there are taps")
+
+
+def check_wired(prime, taps, start):
+    """Check what most functions over registers begin with, from the left."""
+    check_prime(prime)
+    check_taps(prime, taps)
+    check_start(prime, taps, start)
+
+
+def check_lengths(value):
+    if not isinstance(value, tuple) or len(value) > MOST_NUMBERS:
+        raise BadLengths(f"lengths are a tuple of at most {MOST_NUMBERS} integers")
+    if not all([is_between(length, 0, MOST_NUMBERS) for length in value]):
+        raise BadLengths(f"lengths are integers from 0 to {MOST_NUMBERS}")
+
+
+def check_block(prime, value):
+    if not are_numbers(prime, value, MOST_NUMBERS) or len(value) == 0:
+        raise BadBlock(f"a block is a tuple of 1 to {MOST_NUMBERS} numbers")

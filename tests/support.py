@@ -1,0 +1,188 @@
+"""Slow ways of computing what the package computes, and values that are not let."""
+
+from copy import deepcopy
+from itertools import product
+
+PRIMES = (2, 3, 5, 7)
+
+
+# Values of all kinds that are wrong for an argument.
+
+OTHER_KINDS = ["1", "", None, True, False, (), (1,), (2,), [], [1], [2], {}, {1: 1}, {2: 1}]
+WRONG_PRIMES = [-2, 0, 1, 4, 6, 8, 9, 11, 10 ** 20] + OTHER_KINDS
+
+
+def wrong_integers(least, most):
+    return [least - 1, most + 1, -10 ** 30, 10 ** 30] + OTHER_KINDS
+
+
+def wrong_tuples(prime):
+    """Values that are no tuples of numbers."""
+    values = [0, 1, -1, "", "0", "10", True, False, None, [], [0], [1], [1, 1], {}, {0: 1}, {1: 1}]
+    things = [prime, -1, 10 ** 30, "0", "", True, False, None, (), (0,), [0], {0: 0}]
+    return values + [(thing,) for thing in things] + [(1, thing, 1) for thing in things]
+
+
+def wrong_polynomials(prime):
+    return wrong_tuples(prime) + [(0,), (1, 0), (0, 0), (1,) * 202, (0,) * 201, (0,) * 500 + (1,)]
+
+
+def wrong_rows(prime):
+    return wrong_tuples(prime) + [(0,) * 401, (1,) * 401]
+
+
+def wrong_blocks(prime):
+    return wrong_rows(prime) + [()]
+
+
+def wrong_taps(prime):
+    return wrong_tuples(prime) + [(0,) * 61, (1,) * 61]
+
+
+def wrong_starts(prime, taps):
+    size = len(taps)
+    sizes = [(0,) * (size + 1), (1,) * (size + 1), (0,) * (size + 60)] + [(1,) * n for n in range(size)]
+    return wrong_tuples(prime) + sizes
+
+
+WRONG_LENGTHS = [0, 1, "", "1", True, None, [], [0], {}, {0: 0}, (0,) * 401, (-1,), (401,), (0, 401), (True,), (False,),
+                 ("0",), (None,), ((0,),), ([0],), ({},), (0, 2, 2, True)]
+WRONG_TEXTS = [0, 1, True, False, None, (), ("x",), [], ["x"], {}, {"x": 1}]
+
+
+def error_of(function, arguments):
+    """The class of the error that a call raises, None if it raises none."""
+    try:
+        function(*arguments)
+    except Exception as error:
+        return error.__class__
+    return None
+
+
+def check_wrong(case, function, good, wrong):
+    """Check the errors of a call with one or two wrong arguments.
+
+    good are arguments that are let; wrong has a pair (error class, values) for each,
+    None for an argument that may be anything.
+    """
+    case.assertIsNone(error_of(function, good))
+    for at, told in enumerate(wrong):
+        if told is None:
+            continue
+        error, values = told
+        for value in values:
+            arguments = list(good)
+            arguments[at] = value
+            before = deepcopy(arguments)
+            case.assertIs(error_of(function, arguments), error, (function.__name__, arguments))
+            case.assertEqual(before, arguments)
+            for behind in range(at + 1, len(good)):
+                for other in wrong[behind][1] if wrong[behind] else []:
+                    arguments[behind] = other
+                    case.assertIs(error_of(function, arguments), error, (function.__name__, arguments))
+                arguments[behind] = good[behind]
+
+
+# Tuples and polynomials.
+
+def all_rows(prime, size):
+    return list(product(range(prime), repeat=size))
+
+
+def all_polynomials(prime, most):
+    """All polynomials of at most so many numbers."""
+    return [a for size in range(most + 1) for a in all_rows(prime, size) if not a or a[-1] != 0]
+
+
+def random_row(rng, prime, size):
+    return tuple(rng.randrange(prime) for _ in range(size))
+
+
+def random_polynomial(rng, prime, size):
+    """A polynomial of just so many numbers."""
+    return random_row(rng, prime, size - 1) + (rng.randrange(1, prime),) if size else ()
+
+
+def cut(numbers):
+    numbers = list(numbers)
+    while numbers and numbers[-1] == 0:
+        numbers.pop()
+    return tuple(numbers)
+
+
+def slow_sum(prime, a, b):
+    return cut([((a[k] if k < len(a) else 0) + (b[k] if k < len(b) else 0)) % prime for k in range(len(a) + len(b))])
+
+
+def slow_product(prime, a, b):
+    found = {}
+    for i in range(len(a)):
+        for j in range(len(b)):
+            found[i + j] = found.get(i + j, 0) + a[i] * b[j]
+    return cut([found[k] % prime for k in sorted(found)])
+
+
+def slow_divisors(prime, a):
+    """The divisors of a polynomial other than zero that have the leading number 1, by trying all products."""
+    parts = [b for b in all_polynomials(prime, len(a)) if b]
+    return {b for b in parts for c in parts if b[-1] == 1 and slow_product(prime, b, c) == a}
+
+
+# Rows and registers.
+
+def slow_run(prime, taps, start, count):
+    row = list(start)
+    while len(row) < count:
+        row.append(sum(taps[k] * row[len(row) - 1 - k] for k in range(len(taps))) % prime)
+    return tuple(row[:count])
+
+
+def slow_makes(prime, taps, row):
+    size = len(taps)
+    return all(row[n] == sum(taps[k] * row[n - 1 - k] for k in range(size)) % prime for n in range(size, len(row)))
+
+
+def slow_all_taps(prime, row, length):
+    """The taps of all registers of a length that make a row, by trying."""
+    return [taps for taps in all_rows(prime, length) if slow_makes(prime, taps, row)]
+
+
+def slow_least(prime, row):
+    """The least length of a register that makes a row, by trying."""
+    length = 0
+    while not slow_all_taps(prime, row, length):
+        length += 1
+    return length
+
+
+def solvable(prime, rows):
+    """Whether there are numbers whose products with all but the last number of each row add up to the last one."""
+    rows = [list(row) for row in rows]
+    width = len(rows[0]) - 1 if rows else 0
+    for column in range(width):
+        lead = next((row for row in rows if row[column]), None)
+        if lead is None:
+            continue
+        rows = [row for row in rows if row is not lead]
+        turn = next(k for k in range(1, prime) if k * lead[column] % prime == 1)
+        for row in rows:
+            factor = row[column] * turn
+            for at in range(column, width + 1):
+                row[at] = (row[at] - factor * lead[at]) % prime
+    return not any(row[width] for row in rows)
+
+
+def eliminated_least(prime, row):
+    """The least length of a register that makes a row, by elimination."""
+    length = 0
+    while not solvable(prime, [row[n - length:n][::-1] + (row[n],) for n in range(length, len(row))]):
+        length += 1
+    return length
+
+
+def weights_show(prime, row, length, weights):
+    """Whether a tuple of numbers is weights that show that no register of a length makes a row (point 7)."""
+    if len(weights) != len(row) - length:
+        return False
+    sums = [sum(weights[n - length] * row[n - d] for n in range(length, len(row))) % prime for d in range(length + 1)]
+    return sums[0] != 0 and sums[1:] == [0] * length
