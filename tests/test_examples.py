@@ -1,0 +1,73 @@
+"""The examples that the interface shows, word for word."""
+
+import unittest
+
+EXAMPLES = {
+    "taprows/polys.py": '''
+>>> from taprows.polys import combination, divide, poly_product, poly_sum, power_rest
+>>> [poly_sum(3, (1, 2), (2, 1)), poly_product(3, (1, 2), (2, 1)), divide(2, (1, 0, 0, 1), (1, 1)), power_rest(2, (0, 1), 7, (1, 1, 0, 1)), combination(5, (2, 2), ())[0]]
+[(), (2, 2, 2), ((1, 1, 1), ()), (1,), (1, 1)]
+''',
+    "taprows/registers.py": '''
+>>> from taprows.registers import expansion, first_break, fraction, run, state_after
+>>> [run(2, (0, 1, 1), (1, 0, 0), 10), first_break(5, (1, 1), (0, 1, 1, 2, 3, 1)), state_after(7, (1, 1), (0, 1), 16), fraction(7, (1, 1), (0, 1)), expansion(7, (0, 1), (1, 6, 6), 8)]
+[(1, 0, 0, 1, 0, 1, 1, 1, 0, 0), 5, (0, 1), ((0, 1), (1, 6, 6)), (0, 1, 1, 2, 3, 5, 1, 6)]
+''',
+    "taprows/rowtexts.py": '''
+>>> from taprows.rowtexts import read, write
+>>> [write(3, (2, 1, 0, 2)), write(2, ()), read(3, "2x ^2 + x+ 2x+1"), read(5, "0x^9+x^0")]
+['2x^3+x+2', '0', (1, 0, 2), (1,)]
+>>> read(3, "x+3")
+raises InvalidText(place=2)
+''',
+    "taprows/shortest.py": '''
+>>> from taprows.shortest import all_shortest, least_length, lower_bound, shortest, shows_bound
+>>> [least_length(2, (0, 0, 1)), all_shortest(2, (1, 0, 1)), all_shortest(3, (1, 2)), shortest(5, (0, 1, 1, 2, 3, 0)), least_length(7, ())]
+[3, [(0, 1), (1, 1)], [(2,)], (1, 1), 0]
+>>> [lower_bound(2, (0, 0, 1), 2), shows_bound(2, (0, 0, 1), 1, (0, 1)), shows_bound(2, (0, 0, 1), 1, (1, 0)), lower_bound(2, (0, 0, 1), 3)]
+[(1,), True, False, None]
+''',
+    "taprows/profiles.py": '''
+>>> from taprows.profiles import count_profile, count_rows, is_perfect, mean_length, partial_quotients, profile, profile_break, rows_of
+>>> [profile(2, (0, 0, 1, 1, 0, 1)), profile_break((0, 2, 2, 2)), profile_break((1, 2)), count_profile(3, (0, 2, 2)), count_rows(2, 3, 2), rows_of(2, 3, 2)]
+[(0, 0, 3, 3, 3, 3), None, 1, 6, 4, [(0, 1, 0), (0, 1, 1), (1, 0, 1), (1, 1, 0)]]
+>>> [mean_length(2, 2), partial_quotients(7, (1, 1), (0, 1)), is_perfect(2, (1, 1, 0)), is_perfect(2, (1, 0, 0))]
+[(1, 1), [(6, 6, 1)], True, False]
+''',
+    "taprows/periods.py": '''
+>>> from taprows.periods import block_fraction, block_taps, count_blocks, from_spectrum, least_period, power_length, spectrum
+>>> [least_period(2, (1, 0, 1, 0)), block_fraction(2, (1, 0, 1, 0)), block_taps(3, (1, 2, 0)), block_taps(5, (0, 0)), power_length(2, (1, 1, 0, 0)), power_length(3, (1, 1, 1))]
+[2, ((1,), (1, 0, 1)), (2, 2), (), 3, 1]
+>>> [count_blocks(2, 2, 3), count_blocks(3, 1, 0), spectrum(5, (1, 0, 0, 0)), spectrum(7, (1, 2)), from_spectrum(7, (3, 6))]
+[4, 1, (1, 1, 1, 1), (3, 6), (1, 2)]
+''',
+}
+
+
+def shown(code, names):
+    """What the interface would show for an expression."""
+    try:
+        return repr(eval(code, names))
+    except ValueError as error:
+        fields = ", ".join(f"{name}={value!r}" for name, value in vars(error).items())
+        return f"raises {error.__class__.__name__}({fields})"
+
+
+class Examples(unittest.TestCase):
+
+    def test_examples(self):
+        for module, text in EXAMPLES.items():
+            names = {}
+            lines = text.strip().splitlines()
+            for line, behind in zip(lines, lines[1:] + [">>> "]):
+                if not line.startswith(">>> "):
+                    continue
+                if behind.startswith(">>> "):
+                    exec(line[4:], names)
+                else:
+                    with self.subTest(module=module, line=line):
+                        self.assertEqual(shown(line[4:], names), behind)
+
+
+if __name__ == "__main__":
+    unittest.main()

@@ -1,0 +1,68 @@
+"""The names and arguments of the interface, and the error classes with their fields."""
+
+import inspect
+import unittest
+from importlib import import_module
+
+import taprows.errors as errors
+
+FUNCTIONS = {
+    "polys": ["poly_sum(prime, a, b)", "poly_product(prime, a, b)", "power_rest(prime, a, exponent, modulus)",
+              "divide(prime, a, b)", "combination(prime, a, b)"],
+    "registers": ["run(prime, taps, start, count)", "state_after(prime, taps, start, steps)",
+                  "first_break(prime, taps, row)", "fraction(prime, taps, start)",
+                  "expansion(prime, above, low, count)"],
+    "rowtexts": ["write(prime, a)", "read(prime, text)"],
+    "shortest": ["least_length(prime, row)", "shortest(prime, row)", "all_shortest(prime, row)",
+                 "lower_bound(prime, row, length)", "shows_bound(prime, row, length, value)"],
+    "profiles": ["profile(prime, row)", "row_of_profile(prime, lengths)", "profile_break(lengths)",
+                 "count_profile(prime, lengths)", "count_rows(prime, size, length)", "rows_of(prime, size, length)",
+                 "mean_length(prime, size)", "partial_quotients(prime, taps, start)", "is_perfect(prime, row)"],
+    "periods": ["least_period(prime, block)", "block_fraction(prime, block)", "block_taps(prime, block)",
+                "power_length(prime, block)", "count_blocks(prime, exponent, length)", "spectrum(prime, block)",
+                "from_spectrum(prime, told)"],
+}
+WITHOUT_FIELDS = """BadPrime BadRow BadPolynomial BadNumber BadTaps BadStart ZeroDivisor NotText BadLengths BadBlock
+NotUnit BadRegister BadBits BadSize BadTable NotOneToOne BadTerms BadFraction OtherSize BadPlaces BadSums BadName BadField
+BadElement NotSingle BadSpectrum""".split()
+WITH_FIELDS = {
+    "InvalidText": ["place"], "TooMany": ["most"], "BadProfile": ["index"], "BadRegisters": ["index"],
+    "BadRows": ["index"], "InvalidCommand": ["line", "column"], "BadParts": ["index"],
+}
+
+
+class Interface(unittest.TestCase):
+
+    def test_functions(self):
+        for module, texts in FUNCTIONS.items():
+            found = import_module(f"taprows.{module}")
+            for text in texts:
+                function = getattr(found, text.partition("(")[0])
+                self.assertEqual(f"{function.__name__}{inspect.signature(function)}", text)
+                self.assertEqual(function.__module__, f"taprows.{module}")
+
+    def test_base_class(self):
+        self.assertEqual(errors.RowsError.__bases__, (ValueError,))
+
+    def test_errors_without_fields(self):
+        for name in WITHOUT_FIELDS:
+            self.assertEqual(getattr(errors, name).__bases__, (errors.RowsError,), name)
+            self.assertEqual(vars(getattr(errors, name)("told")), {})
+
+    def test_errors_with_fields(self):
+        for name, fields in WITH_FIELDS.items():
+            found = getattr(errors, name)
+            self.assertEqual(found.__bases__, (errors.RowsError,), name)
+            for values in ([3, 8], [None, None]):
+                told = values[:len(fields)]
+                error = found(*told)
+                self.assertEqual(vars(error), dict(zip(fields, told)))
+                self.assertIsInstance(str(error), str)
+
+    def test_no_further_errors(self):
+        names = {name for name, value in vars(errors).items() if inspect.isclass(value)}
+        self.assertEqual(names, {"RowsError", *WITHOUT_FIELDS, *WITH_FIELDS})
+
+
+if __name__ == "__main__":
+    unittest.main()
