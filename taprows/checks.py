@@ -1,12 +1,16 @@
 """Which values are let for arguments, and the errors for all others."""
 
-from taprows.errors import BadBlock, BadLengths, BadNumber, BadPolynomial, BadPrime, BadRow, BadStart, BadTaps
+from taprows.errors import BadBlock, BadLengths, BadNumber, BadPolynomial, BadPrime, BadRegister, BadRow, BadStart
+from taprows.errors import BadTaps, TooMany
+from taprows.integers import power_of
 
 PRIMES = (2, 3, 5, 7)
 MOST_NUMBERS = 400
 MOST_COEFFICIENTS = 201
 MOST_TAPS = 60
 MOST_FOUND = 2000
+MOST_DEGREE = 24
+MOST_STATES = 10 ** 12
 
 
 def is_between(value, least, most):
@@ -46,8 +50,13 @@ def check_taps(prime, value):
         raise BadTaps(f"taps are a tuple of at most {MOST_TAPS} numbers")
 
 
+def are_so_many(prime, value, size):
+    """Whether any value is a tuple of just so many numbers."""
+    return are_numbers(prime, value, size) and len(value) == size
+
+
 def check_start(prime, taps, value):
-    if not are_numbers(prime, value, len(taps)) or len(value) < len(taps):
+    if not are_so_many(prime, value, len(taps)):
         raise BadStart("a start is a tuple of as many numbers as there are taps")
 
 
@@ -68,3 +77,22 @@ def check_lengths(value):
 def check_block(prime, value):
     if not are_numbers(prime, value, MOST_NUMBERS) or len(value) == 0:
         raise BadBlock(f"a block is a tuple of 1 to {MOST_NUMBERS} numbers")
+
+
+def is_wired(prime, value):
+    """Whether any value is a pair of taps and a start."""
+    if not isinstance(value, tuple) or len(value) != 2:
+        return False
+    taps, start = value
+    return are_numbers(prime, taps, MOST_TAPS) and are_so_many(prime, start, len(taps))
+
+
+def check_pair(prime, value):
+    if not is_wired(prime, value):
+        raise BadRegister("a pair of taps and a start is wanted")
+
+
+def check_states(prime, size):
+    """Check that the states of so many numbers are not too many to be told by their factors."""
+    if size > MOST_DEGREE or power_of(prime, size) > MOST_STATES:
+        raise TooMany(MOST_STATES)

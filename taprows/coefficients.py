@@ -55,6 +55,16 @@ def rest_of(prime, a, b):
     return rest
 
 
+def monic(prime, a):
+    """A polynomial other than zero, times the number that makes its leading number 1."""
+    return scaled(prime, a, inverse(prime, a[-1]))
+
+
+def derivative(prime, a):
+    """The sum of the terms of a polynomial, each times its power and divided by x."""
+    return trimmed([power * number % prime for power, number in enumerate(a)][1:])
+
+
 def common_divisor(prime, a, b):
     """A greatest common divisor, with any leading number; zero if both are zero."""
     while b:

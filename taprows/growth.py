@@ -63,3 +63,12 @@ def grown(prime, row):
     for number in row:
         growth.take(number)
     return growth
+
+
+def least_wired(prime, row):
+    """The pair (taps, start) of the shortest register that makes a row.
+
+    It makes the endless row, too, if the row has twice as many numbers as some register of the endless row.
+    """
+    taps = grown(prime, row).taps()
+    return taps, tuple(row[:len(taps)])

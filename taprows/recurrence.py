@@ -21,6 +21,20 @@ def low_of(prime, taps):
     return trimmed([1] + [-tap % prime for tap in taps])
 
 
+def modulus_of(prime, taps):
+    """x ** L less the first tap times x ** (L - 1), less the second tap times x ** (L - 2), and so on.
+
+    Each row goes on by this polynomial: a multiple of it, read as weights of numbers
+    that follow one another, always sums up to 0.
+    """
+    return tuple(reversed([1] + [-tap % prime for tap in taps]))
+
+
+def weighted(prime, weights, row, at):
+    """The sum of the products of the weights and the numbers of a row from an index on."""
+    return sum([weight * row[at + place] for place, weight in enumerate(weights)]) % prime
+
+
 def taps_of_low(prime, low):
     """The taps whose terms, taken from 1, make a low; zeros at its end make taps, too."""
     return tuple([-number % prime for number in low[1:]])

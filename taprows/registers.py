@@ -5,7 +5,7 @@ from taprows.checks import check_wired
 from taprows.coefficients import power_rest_of, product_of, trimmed
 from taprows.errors import ZeroDivisor
 from taprows.integers import inverse
-from taprows.recurrence import first_numbers, low_of, next_number
+from taprows.recurrence import first_numbers, low_of, modulus_of, next_number, weighted
 
 MOST_STEPS = 10 ** 18
 
@@ -32,12 +32,9 @@ def state_after(prime, taps, start, steps):
     """The numbers of a register's row from the index steps on, as many as there are taps."""
     check_wired(prime, taps, start)
     check_number(steps, 0, MOST_STEPS)
-    # The row goes on by x ** L less the taps' terms, so a multiple of this polynomial,
-    # read as weights of numbers that follow one another, always sums up to 0.
-    modulus = tuple(reversed([1] + [-tap % prime for tap in taps]))
-    weights = power_rest_of(prime, (0, 1), steps, modulus)
+    weights = power_rest_of(prime, (0, 1), steps, modulus_of(prime, taps))
     row = first_numbers(prime, taps, start, 2 * len(taps))
-    return tuple([_weighted(prime, weights, row, at) for at in range(len(taps))])
+    return tuple([weighted(prime, weights, row, at) for at in range(len(taps))])
 
 
 def fraction(prime, taps, start):
@@ -63,8 +60,3 @@ def expansion(prime, above, low, count):
         taken = sum([low[back] * row[at - back] for back in range(1, min(at + 1, len(low)))])
         row.append((number - taken) * scale % prime)
     return tuple(row)
-
-
-def _weighted(prime, weights, row, at):
-    """The sum of the products of the weights and the numbers of a row from an index on."""
-    return sum([weight * row[at + place] for place, weight in enumerate(weights)]) % prime

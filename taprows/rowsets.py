@@ -3,6 +3,7 @@
 from taprows.growth import grown
 from taprows.integers import power_of
 from taprows.recurrence import first_numbers, next_number
+from taprows.states import states_of
 
 
 def count_of(prime, size, length):
@@ -23,7 +24,7 @@ def rows_with(prime, size, length):
     # The last jump comes from a shorter length; behind it all numbers are free.
     for shorter in range(min(size - length, length - 1) + 1):
         jump = length + shorter - 1
-        tails = _all_tuples(prime, size - jump - 1)
+        tails = states_of(prime, size - jump - 1)
         for row in rows_with(prime, jump, shorter):
             heads = _unexpected(prime, row, shorter)
             rows.extend([head + tail for head in heads for tail in tails])
@@ -43,11 +44,3 @@ def _unexpected(prime, row, length):
     """A row with each number behind it with which it does not go on by its register."""
     expected = next_number(prime, _only_taps(prime, row, length), row)
     return [row + (number,) for number in range(prime) if number != expected]
-
-
-def _all_tuples(prime, count):
-    """All tuples of so many numbers."""
-    found = [()]
-    for _ in range(count):
-        found = [known + (number,) for known in found for number in range(prime)]
-    return found

@@ -1,6 +1,6 @@
 """The shortest registers that make a row, and weights that show that none is shorter (points 6 and 7)."""
 
-from taprows.checks import MOST_FOUND, are_numbers, check_number, check_prime, check_row
+from taprows.checks import MOST_FOUND, are_so_many, check_number, check_prime, check_row
 from taprows.errors import TooMany
 from taprows.growth import Growth, grown
 from taprows.integers import power_of
@@ -50,7 +50,7 @@ def shows_bound(prime, row, length, value):
     """Whether any value is weights that show that no register of a length makes a row."""
     _check(prime, row)
     check_number(length, 0, len(row))
-    if not are_numbers(prime, value, len(row) - length) or len(value) < len(row) - length:
+    if not are_so_many(prime, value, len(row) - length):
         return False
     sums = [_weighted(prime, value, row[length - back:]) for back in range(length + 1)]
     return sums[0] != 0 and not any(sums[1:])

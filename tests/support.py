@@ -186,3 +186,79 @@ def weights_show(prime, row, length, weights):
         return False
     sums = [sum(weights[n - length] * row[n - d] for n in range(length, len(row))) % prime for d in range(length + 1)]
     return sums[0] != 0 and sums[1:] == [0] * length
+
+
+# Values that are no registers, and slow ways for what states and joined rows do.
+
+def wrong_pairs(prime):
+    """Values that are no pairs of taps and a start."""
+    values = [0, 1, "", "ab", "1", None, True, False, (), [], {}, {0: (), 1: ()}, [(), ()], [(1,), (1,)], ((),), ((1,),),
+              ((), (), ()), ((1,), (1,), 1), (1, 1), ("1", "1"), ("", ""), (None, None), ([], []), ({}, {}), ([1], [1])]
+    starts = [((1,), start) for start in wrong_starts(prime, (1,))]
+    return values + [(taps, (1,)) for taps in wrong_taps(prime)] + starts + [((), (0,)), ((1,) * 60, (1,) * 59)]
+
+
+def random_wired(rng, prime, size):
+    return random_row(rng, prime, size), random_row(rng, prime, size)
+
+
+def most_of(case, function, *arguments):
+    """The number of the TooMany that a call raises."""
+    try:
+        function(*arguments)
+    except ValueError as error:
+        case.assertEqual(error.__class__.__name__, "TooMany")
+        return error.most
+    case.fail(f"no error: {function.__name__}{arguments}")
+
+
+def slow_rest(prime, a, b):
+    """The rest of a polynomial by another one, term by term."""
+    a = list(a)
+    turn = next(k for k in range(1, prime) if k * b[-1] % prime == 1)
+    while len(a) >= len(b):
+        factor = a[-1] * turn
+        for k in range(len(b)):
+            a[len(a) - len(b) + k] = (a[len(a) - len(b) + k] - factor * b[k]) % prime
+        a.pop()
+    return cut(a)
+
+
+def slow_period(step, state):
+    """The pair (ahead, period) of the states behind a state, by walking."""
+    seen = {}
+    while state not in seen:
+        seen[state] = len(seen)
+        state = step(state)
+    return seen[state], len(seen) - seen[state]
+
+
+def slow_cycles(step, states):
+    """The list of the cycles, each as the list of its states; each state has to stand in one."""
+    found = []
+    seen = set()
+    for state in states:
+        if state in seen:
+            continue
+        cycle = []
+        while state not in seen:
+            seen.add(state)
+            cycle.append(state)
+            state = step(state)
+        assert state == cycle[0]
+        found.append(cycle)
+    return found
+
+
+def row_repeats(row):
+    """The pair (ahead, period) of a long row: the least period of its end, and the least index from which it holds.
+
+    The row has to have many times as many numbers as both.
+    """
+    for period in range(1, len(row) // 4):
+        ahead = len(row) - period
+        while ahead > 0 and row[ahead - 1] == row[ahead - 1 + period]:
+            ahead -= 1
+        if ahead < len(row) // 2:
+            return ahead, period
+    raise AssertionError("no period")

@@ -41,6 +41,29 @@ raises InvalidText(place=2)
 >>> [count_blocks(2, 2, 3), count_blocks(3, 1, 0), spectrum(5, (1, 0, 0, 0)), spectrum(7, (1, 2)), from_spectrum(7, (3, 6))]
 [4, 1, (1, 1, 1, 1), (3, 6), (1, 2)]
 ''',
+    "taprows/changes.py": '''
+>>> from taprows.changes import changed_length, changes_to_lower, shows_change, steps
+>>> [changed_length((1, 0, 0, 0), 1), changes_to_lower((1, 1, 0, 0)), changes_to_lower((0, 0)), steps((1, 0, 0, 0)), steps((1, 1, 1, 0)), shows_change((1, 1, 1, 0), 1, (1, (1, 1, 1, 1)))]
+[(0, (0, 0, 0, 0)), 2, None, [(0, 4), (1, 0)], [(0, 4), (1, 1), (3, 0)], True]
+''',
+    "taprows/factors.py": '''
+>>> from taprows.factors import cannot_split, factors, is_primitive, order, order_certificate, primitives, shows_order
+>>> [factors(2, (1, 0, 0, 0, 1)), factors(3, (0, 2, 0, 1)), cannot_split(2, (1, 1, 1)), order(2, (1, 1, 0, 1)), order_certificate(2, (1, 1, 1)), is_primitive(3, (1, 0, 1))]
+[[((1, 1), 4)], [((0, 1), 1), ((1, 1), 1), ((2, 1), 1)], True, 7, (3, ((3, (0, 1)),)), False]
+>>> [primitives(2, 3), shows_order(2, (1, 1), (1, ())), order(5, (3,))]
+[[(1, 0, 1, 1), (1, 1, 0, 1)], True, 1]
+''',
+    "taprows/cycles.py": '''
+>>> from taprows.cycles import cycle_starts, cycles, row_period
+>>> [cycles(2, (1, 1)), cycles(3, (0, 2)), cycle_starts(2, (0, 1)), row_period(2, (1, 0), (0, 1)), row_period(7, (1, 1), (0, 1)), row_period(2, (), ())]
+[[(1, 1), (3, 1)], [(1, 1), (4, 2)], [(0, 0), (0, 1), (1, 1)], (1, 1), (0, 16), (0, 1)]
+''',
+    "taprows/joined.py": '''
+>>> from taprows.joined import added, decimated, least_one, multiplied, woven
+>>> one, other = ((1, 1), (0, 1)), ((1,), (1,))
+>>> [least_one(2, ((0, 1), (1, 1))), added(2, one, other), multiplied(3, ((1, 1), (0, 1)), ((2,), (1,))), woven(2, (other, ((), ()))), decimated(2, one, 1, 2)]
+[((1,), (1,)), ((0, 0, 1), (1, 0, 0)), ((2, 1), (0, 2)), ((0, 1), (1, 0)), ((1, 1), (1, 0))]
+''',
 }
 
 

@@ -21,6 +21,13 @@ FUNCTIONS = {
     "periods": ["least_period(prime, block)", "block_fraction(prime, block)", "block_taps(prime, block)",
                 "power_length(prime, block)", "count_blocks(prime, exponent, length)", "spectrum(prime, block)",
                 "from_spectrum(prime, told)"],
+    "changes": ["changed_length(block, most)", "shows_change(block, most, value)", "changes_to_lower(block)",
+                "steps(block)"],
+    "factors": ["factors(prime, a)", "cannot_split(prime, a)", "order(prime, a)", "order_certificate(prime, a)",
+                "shows_order(prime, a, value)", "is_primitive(prime, a)", "primitives(prime, size)"],
+    "cycles": ["cycles(prime, taps)", "cycle_starts(prime, taps)", "row_period(prime, taps, start)"],
+    "joined": ["least_one(prime, wired)", "added(prime, one, other)", "multiplied(prime, one, other)",
+               "woven(prime, registers)", "decimated(prime, wired, first, step)"],
 }
 WITHOUT_FIELDS = """BadPrime BadRow BadPolynomial BadNumber BadTaps BadStart ZeroDivisor NotText BadLengths BadBlock
 NotUnit BadRegister BadBits BadSize BadTable NotOneToOne BadTerms BadFraction OtherSize BadPlaces BadSums BadName BadField

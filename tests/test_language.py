@@ -1,6 +1,7 @@
 """Some of the rules of the language that the package keeps to, as far as they are quickly seen."""
 
 import ast
+import builtins
 import unittest
 from pathlib import Path
 
@@ -69,6 +70,7 @@ class Language(unittest.TestCase):
             self.assertNotIsInstance(node.op, (ast.Div, ast.MatMult), where)
             if isinstance(node.op, ast.Pow):
                 self.assertIsInstance(node.right, ast.Constant, where)
+                self.assertLessEqual(node.right.value, 64, where)
         elif isinstance(node, ast.Constant):
             self.assertNotIsInstance(node.value, (float, complex), where)
             self.assertFalse(isinstance(node.value, str) and "%" in node.value, where)
@@ -87,6 +89,24 @@ class Language(unittest.TestCase):
         trees = [ast.parse(path.read_text()) for path in files()]
         classes = [node for tree in trees for node in tree.body if isinstance(node, ast.ClassDef)]
         return {part.name for node in classes for part in node.body if isinstance(part, ast.FunctionDef)}
+
+    def test_local_names(self):
+        for path in files():
+            tree = ast.parse(path.read_text())
+            taken = {alias.name for node in tree.body if isinstance(node, ast.ImportFrom) for alias in node.names}
+            taken |= {node.name for node in tree.body if isinstance(node, ast.ClassDef)}
+            for node in ast.walk(tree):
+                if isinstance(node, ast.arg):
+                    name = node.arg
+                elif isinstance(node, ast.Name) and isinstance(node.ctx, ast.Store):
+                    name = node.id
+                elif isinstance(node, (ast.FunctionDef, ast.ClassDef)):
+                    name = None if node in tree.body or node.name.startswith("__") else node.name
+                    self.assertFalse(node in tree.body and hasattr(builtins, node.name), node.name)
+                else:
+                    continue
+                self.assertNotIn(name, taken, f"{path.name}:{node.lineno}")
+                self.assertFalse(name and hasattr(builtins, name), f"{path.name}:{node.lineno}")
 
     def test_no_circles_of_imports(self):
         needs = {}
