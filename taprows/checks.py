@@ -1,7 +1,7 @@
 """Which values are let for arguments, and the errors for all others."""
 
-from taprows.errors import BadBlock, BadLengths, BadNumber, BadPolynomial, BadPrime, BadRegister, BadRow, BadStart
-from taprows.errors import BadTaps, TooMany
+from taprows.errors import BadBlock, BadLengths, BadNumber, BadPolynomial, BadPrime, BadRegister, BadRow, BadSize
+from taprows.errors import BadStart, BadTable, BadTaps, TooMany
 from taprows.integers import power_of
 
 PRIMES = (2, 3, 5, 7)
@@ -11,6 +11,8 @@ MOST_TAPS = 60
 MOST_FOUND = 2000
 MOST_DEGREE = 24
 MOST_STATES = 10 ** 12
+MOST_SIZE = 9
+MOST_ENTRIES = 512
 
 
 def is_between(value, least, most):
@@ -74,9 +76,9 @@ def check_lengths(value):
         raise BadLengths(f"lengths are integers from 0 to {MOST_NUMBERS}")
 
 
-def check_block(prime, value):
-    if not are_numbers(prime, value, MOST_NUMBERS) or len(value) == 0:
-        raise BadBlock(f"a block is a tuple of 1 to {MOST_NUMBERS} numbers")
+def check_block(prime, value, most=MOST_NUMBERS):
+    if not are_numbers(prime, value, most) or len(value) == 0:
+        raise BadBlock(f"a block is a tuple of 1 to {most} numbers")
 
 
 def is_wired(prime, value):
@@ -96,3 +98,18 @@ def check_states(prime, size):
     """Check that the states of so many numbers are not too many to be told by their factors."""
     if size > MOST_DEGREE or power_of(prime, size) > MOST_STATES:
         raise TooMany(MOST_STATES)
+
+
+def check_size(prime, value):
+    if not is_between(value, 1, MOST_SIZE) or power_of(prime, value) > MOST_ENTRIES:
+        raise BadSize(f"a size is an integer from 1 to {MOST_SIZE} with at most {MOST_ENTRIES} states")
+
+
+def check_table(prime, size, value):
+    if not are_so_many(prime, value, power_of(prime, size)):
+        raise BadTable("a table is a tuple of a number for each state")
+
+
+def check_state(prime, size, value):
+    if not are_so_many(prime, value, size):
+        raise BadStart("a state is a tuple of as many numbers as the size tells")

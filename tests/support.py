@@ -262,3 +262,39 @@ def row_repeats(row):
         if ahead < len(row) // 2:
             return ahead, period
     raise AssertionError("no period")
+
+
+# Values that are not let for free registers, bits and fractions.
+
+GREATEST_SIZES = {2: 9, 3: 5, 5: 3, 7: 3}
+WRONG_BITS = wrong_tuples(2) + [(), (0,) * 401, (1,) * 401, (0, 1) * 300, (0,) * 399 + (2,)]
+
+
+def wrong_sizes(prime):
+    return wrong_integers(1, GREATEST_SIZES[prime]) + [10, 512]
+
+
+def wrong_tables(prime, size):
+    many = prime ** size
+    return wrong_tuples(prime) + [(0,) * n for n in (many - 1, many + 1, 2 * many, many * prime, 513)]
+
+
+def wrong_states(prime, size):
+    return wrong_tuples(prime) + [(0,) * n for n in range(size)] + [(0,) * (size + 1), (1,) * (size + 60)]
+
+
+def random_table(rng, prime, size):
+    return random_row(rng, prime, prime ** size)
+
+
+def random_turned_table(rng, prime, size):
+    """A table without clash: for the states with one tail the numbers behind them are all different."""
+    tails = prime ** (size - 1)
+    columns = [rng.sample(range(prime), prime) for _ in range(tails)]
+    return tuple(columns[tail][first] for first in range(prime) for tail in range(tails))
+
+
+def table_step(prime, size, table):
+    """The function from a state to the one behind it."""
+    entries = dict(zip(all_rows(prime, size), table))
+    return lambda state: state[1:] + (entries[state],)

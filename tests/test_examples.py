@@ -64,6 +64,32 @@ raises InvalidText(place=2)
 >>> [least_one(2, ((0, 1), (1, 1))), added(2, one, other), multiplied(3, ((1, 1), (0, 1)), ((2,), (1,))), woven(2, (other, ((), ()))), decimated(2, one, 1, 2)]
 [((1,), (1,)), ((0, 0, 1), (1, 0, 0)), ((2, 1), (0, 2)), ((0, 1), (1, 0)), ((1, 1), (1, 0))]
 ''',
+    "taprows/agreement.py": '''
+>>> from taprows.agreement import agreements, complementary_pair, complementary_pairs, difference_set, is_complementary, is_two_valued, merit, shifted_agreements, squares_block
+>>> [agreements((0, 1, 1), (0, 1, 1)), shifted_agreements((0, 0, 1), (0, 0, 1)), is_two_valued((0, 0, 1, 0)), difference_set((0, 0, 0, 1, 0, 1, 1)), merit((0, 0, 1)), merit((1,))]
+[(3, -1, -1), (3, 0, -1), True, ((3, 5, 6), 1), (9, 2), None]
+>>> [complementary_pair(2), is_complementary((0, 0, 1), (0, 1, 1)), len(complementary_pairs(2)), squares_block(7)]
+[((0, 0, 0, 1), (0, 0, 1, 0)), False, 8, (0, 0, 0, 1, 0, 1, 1)]
+''',
+    "taprows/freely.py": '''
+>>> from taprows.freely import clash, free_bound, free_cycles, free_length, free_run, joined_table, table_of, taps_of, terms_of
+>>> [free_run(2, 2, (1, 0, 0, 1), (0, 0), 7), clash(2, 2, (1, 0, 0, 1)), clash(2, 1, (1, 1)), taps_of(2, 2, (0, 1, 1, 0)), taps_of(2, 1, (1, 0))]
+[(0, 0, 1, 0, 0, 1, 0), None, ((0,), (1,)), (1, 1), None]
+>>> [free_cycles(2, 2, (0, 0, 1, 1)), joined_table(2, (0, 0, 1, 1)), terms_of(2, (1, 0, 0, 1)), table_of(2, ((0, 1),)), free_length(2, (0, 1, 1, 0)), free_bound(2, (0, 1, 1, 0)), free_length(3, (2, 2))]
+[[((0, 0), 1), ((0, 1), 2), ((1, 1), 1)], (1, 1, 0, 0), [(), (0,), (1,)], (0, 0, 0, 1), 2, (2, 3), 0]
+''',
+    "taprows/allwords.py": '''
+>>> from taprows.allwords import all_words_blocks, count_all_words, first_missing, greedy_block, has_all_words, least_block
+>>> [first_missing(2, 2, (0, 1)), has_all_words(2, 2, (0, 0, 1, 1)), greedy_block(2, 3), least_block(2, 3), least_block(3, 1), count_all_words(3, 2), all_words_blocks(2, 3)]
+[(0, 0), True, (0, 0, 0, 1, 1, 1, 0, 1), (0, 0, 0, 1, 0, 1, 1, 1), (0, 1, 2), 24, [(0, 0, 0, 1, 0, 1, 1, 1), (0, 0, 0, 1, 1, 1, 0, 1)]]
+''',
+    "taprows/carries.py": '''
+>>> from taprows.carries import carry_product, carry_quotient, carry_sum, fraction_period, fraction_row, long_lows, number_row, repeated_fraction, row_number
+>>> [row_number(3, (1, 2)), number_row(2, -2, 4), carry_sum(5, (4, 4), (1, 0)), carry_product(2, (1, 1, 0), (1, 1, 0)), carry_quotient(3, (1, 0, 0), (2, 0, 0))]
+[7, (0, 1, 1, 1), (0, 0), (1, 0, 0), (2, 1, 1)]
+>>> [fraction_row(2, (1, 3), 6), repeated_fraction(2, (1,), (1, 0)), fraction_period(2, (1, 3)), fraction_period(7, (-2, 4)), long_lows(2, 20)]
+[(1, 1, 0, 1, 0, 1), (1, 3), (1, 2), (0, 1), [3, 5, 11, 13, 19]]
+''',
 }
 
 

@@ -28,6 +28,18 @@ FUNCTIONS = {
     "cycles": ["cycles(prime, taps)", "cycle_starts(prime, taps)", "row_period(prime, taps, start)"],
     "joined": ["least_one(prime, wired)", "added(prime, one, other)", "multiplied(prime, one, other)",
                "woven(prime, registers)", "decimated(prime, wired, first, step)"],
+    "agreement": ["agreements(one, other)", "shifted_agreements(one, other)", "is_two_valued(block)",
+                  "difference_set(block)", "merit(row)", "is_complementary(one, other)", "complementary_pair(power)",
+                  "complementary_pairs(size)", "squares_block(size)"],
+    "freely": ["free_run(prime, size, table, start, count)", "clash(prime, size, table)", "taps_of(prime, size, table)",
+               "free_cycles(prime, size, table)", "joined_table(size, table)", "terms_of(size, table)",
+               "table_of(size, terms)", "free_length(prime, row)", "free_bound(prime, row)"],
+    "allwords": ["first_missing(prime, size, block)", "has_all_words(prime, size, block)", "greedy_block(prime, size)",
+                 "least_block(prime, size)", "count_all_words(prime, size)", "all_words_blocks(prime, size)"],
+    "carries": ["row_number(prime, row)", "number_row(prime, number, count)", "carry_sum(prime, one, other)",
+                "carry_product(prime, one, other)", "carry_quotient(prime, one, other)",
+                "fraction_row(prime, fraction, count)", "repeated_fraction(prime, ahead, block)",
+                "fraction_period(prime, fraction)", "long_lows(prime, most)"],
 }
 WITHOUT_FIELDS = """BadPrime BadRow BadPolynomial BadNumber BadTaps BadStart ZeroDivisor NotText BadLengths BadBlock
 NotUnit BadRegister BadBits BadSize BadTable NotOneToOne BadTerms BadFraction OtherSize BadPlaces BadSums BadName BadField
