@@ -1,14 +1,12 @@
 """Rows as figures of integers and of fractions (points 29 and 30)."""
 
-from math import gcd
-
-from taprows.checks import MOST_NUMBERS, check_block, check_number, check_prime, check_row, is_between
-from taprows.errors import BadFraction, OtherSize, TooMany, ZeroDivisor
-from taprows.integers import inverse, power_modulo, power_of, prime_divisors
+from taprows.checks import MOST_NUMBERS, check_block, check_fraction, check_number, check_prime, check_row
+from taprows.errors import OtherSize, TooMany, ZeroDivisor
+from taprows.figures import figures_of, lowest, rest_above, value_of
+from taprows.integers import power_modulo, power_of, prime_divisors
 
 # The exponents of powers in the package are 64 at most.
 MOST_VALUE = 10 ** 60 * 10 ** 60
-MOST_PART = 10 ** 60
 MOST_LOW = 10 ** 12
 MOST_TRIED = 3000
 
@@ -17,7 +15,7 @@ def row_number(prime, row):
     """The integer with the numbers of a row as its figures, the first one being the least."""
     check_prime(prime)
     check_row(prime, row)
-    return _value_of(prime, row)
+    return value_of(prime, row)
 
 
 def number_row(prime, number, count):
@@ -25,21 +23,21 @@ def number_row(prime, number, count):
     check_prime(prime)
     check_number(number, -MOST_VALUE, MOST_VALUE)
     check_number(count, 0, MOST_NUMBERS)
-    return _figures(prime, number, 1, count)
+    return figures_of(prime, number, 1, count)
 
 
 def carry_sum(prime, one, other):
     """The row of the sum of the integers of two rows of one size."""
     _check_two(prime, one, other)
     _check_sizes(one, other)
-    return _figures(prime, _value_of(prime, one) + _value_of(prime, other), 1, len(one))
+    return figures_of(prime, value_of(prime, one) + value_of(prime, other), 1, len(one))
 
 
 def carry_product(prime, one, other):
     """The row of the product of the integers of two rows of one size."""
     _check_two(prime, one, other)
     _check_sizes(one, other)
-    return _figures(prime, _value_of(prime, one) * _value_of(prime, other), 1, len(one))
+    return figures_of(prime, value_of(prime, one) * value_of(prime, other), 1, len(one))
 
 
 def carry_quotient(prime, one, other):
@@ -49,15 +47,16 @@ def carry_quotient(prime, one, other):
     if other[:1] == (0,):
         raise ZeroDivisor("a row that begins with 0 does not divide")
     _check_sizes(one, other)
-    return _figures(prime, _value_of(prime, one), _value_of(prime, other), len(one))
+    return figures_of(prime, value_of(prime, one), value_of(prime, other), len(one))
 
 
 def fraction_row(prime, fraction, count):
     """The first numbers of the endless row of a fraction."""
-    _check_fraction(prime, fraction)
+    check_prime(prime)
+    check_fraction(prime, fraction)
     check_number(count, 0, MOST_NUMBERS)
     above, low = fraction
-    return _figures(prime, above, low, count)
+    return figures_of(prime, above, low, count)
 
 
 def repeated_fraction(prime, ahead, block):
@@ -68,20 +67,21 @@ def repeated_fraction(prime, ahead, block):
     # The block repeated is its value times the sum of the powers of this power of the prime,
     # which times it less 1 is -1.
     low = power_of(prime, len(block)) - 1
-    above = _value_of(prime, ahead) * low - power_of(prime, len(ahead)) * _value_of(prime, block)
-    return _lowest(above, low)
+    above = value_of(prime, ahead) * low - power_of(prime, len(ahead)) * value_of(prime, block)
+    return lowest(above, low)
 
 
 def fraction_period(prime, fraction):
     """The pair (ahead, period): behind so many numbers the endless row repeats, with this least period."""
-    _check_fraction(prime, fraction)
-    above, low = _lowest(fraction[0], fraction[1])
+    check_prime(prime)
+    check_fraction(prime, fraction)
+    above, low = lowest(fraction[0], fraction[1])
     if low > MOST_LOW:
         raise TooMany(MOST_LOW)
     ahead = 0
     # Just the fractions from -1 to 0 are those of blocks that are repeated from the first number on.
     while not -low <= above <= 0:
-        above = _rest_above(prime, above, low)
+        above = rest_above(prime, above, low)
         ahead += 1
     return ahead, _period(prime, low)
 
@@ -103,45 +103,6 @@ def _check_two(prime, one, other):
 def _check_sizes(one, other):
     if len(one) != len(other):
         raise OtherSize("the two rows are of one size here")
-
-
-def _check_fraction(prime, value):
-    check_prime(prime)
-    if not isinstance(value, tuple) or len(value) != 2:
-        raise BadFraction("a fraction is a pair of integers")
-    above, low = value
-    if not is_between(above, -MOST_PART, MOST_PART) or not is_between(low, 1, MOST_PART) or low % prime == 0:
-        raise BadFraction("the integers of a fraction are within bounds, the prime does not divide the lower one")
-
-
-def _value_of(prime, row):
-    value = 0
-    for number in reversed(row):
-        value = value * prime + number
-    return value
-
-
-def _figures(prime, above, low, count):
-    """The first numbers of the endless row of a fraction, whose low the prime does not divide."""
-    row = []
-    for _ in range(count):
-        row.append(_first_figure(prime, above, low))
-        above = _rest_above(prime, above, low)
-    return tuple(row)
-
-
-def _first_figure(prime, above, low):
-    return above * inverse(prime, low) % prime
-
-
-def _rest_above(prime, above, low):
-    """What is above in the fraction of the row without its first number."""
-    return (above - _first_figure(prime, above, low) * low) // prime
-
-
-def _lowest(above, low):
-    common = gcd(above, low)
-    return above // common, low // common
 
 
 def _period(prime, low):

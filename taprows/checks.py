@@ -1,7 +1,7 @@
 """Which values are let for arguments, and the errors for all others."""
 
-from taprows.errors import BadBlock, BadLengths, BadNumber, BadPolynomial, BadPrime, BadRegister, BadRow, BadSize
-from taprows.errors import BadStart, BadTable, BadTaps, TooMany
+from taprows.errors import BadBlock, BadFraction, BadLengths, BadNumber, BadPolynomial, BadPrime, BadRegister, BadRow
+from taprows.errors import BadSize, BadStart, BadTable, BadTaps, TooMany
 from taprows.integers import power_of
 
 PRIMES = (2, 3, 5, 7)
@@ -13,6 +13,8 @@ MOST_DEGREE = 24
 MOST_STATES = 10 ** 12
 MOST_SIZE = 9
 MOST_ENTRIES = 512
+MOST_PART = 10 ** 60
+MOST_STEPS = 10 ** 18
 
 
 def is_between(value, least, most):
@@ -113,3 +115,11 @@ def check_table(prime, size, value):
 def check_state(prime, size, value):
     if not are_so_many(prime, value, size):
         raise BadStart("a state is a tuple of as many numbers as the size tells")
+
+
+def check_fraction(prime, value):
+    if not isinstance(value, tuple) or len(value) != 2:
+        raise BadFraction("a fraction is a pair of integers")
+    above, low = value
+    if not is_between(above, -MOST_PART, MOST_PART) or not is_between(low, 1, MOST_PART) or low % prime == 0:
+        raise BadFraction("the integers of a fraction are within bounds, the prime does not divide the lower one")

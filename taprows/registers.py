@@ -1,13 +1,11 @@
 """Registers: their rows, states and fractions (points 3 and 4)."""
 
-from taprows.checks import MOST_NUMBERS, check_number, check_polynomial, check_prime, check_row, check_taps
+from taprows.checks import MOST_NUMBERS, MOST_STEPS, check_number, check_polynomial, check_prime, check_row, check_taps
 from taprows.checks import check_wired
 from taprows.coefficients import power_rest_of, product_of, trimmed
 from taprows.errors import ZeroDivisor
 from taprows.integers import inverse
 from taprows.recurrence import first_numbers, low_of, modulus_of, next_number, weighted
-
-MOST_STEPS = 10 ** 18
 
 
 def run(prime, taps, start, count):

@@ -298,3 +298,39 @@ def table_step(prime, size, table):
     """The function from a state to the one behind it."""
     entries = dict(zip(all_rows(prime, size), table))
     return lambda state: state[1:] + (entries[state],)
+
+
+# Figures and fractions.
+
+PART = 10 ** 60
+
+
+def value_of(prime, row):
+    return sum(number * prime ** at for at, number in enumerate(row))
+
+
+def figures(prime, number, count):
+    """The figures of the integer from 0 on that is the number up to a multiple of the power."""
+    number %= prime ** count
+    row = []
+    for _ in range(count):
+        number, figure = divmod(number, prime)
+        row.append(figure)
+    return tuple(row)
+
+
+def slow_row(prime, above, low, count):
+    """The row of a fraction, by the inverse of low."""
+    return figures(prime, above * pow(low, -1, prime ** count), count)
+
+
+def coprime(prime, numbers):
+    return [number for number in numbers if number % prime]
+
+
+def wrong_fractions(prime):
+    values = [0, 1, "", "1/3", True, False, None, (), (1,), (1, 1, 1), [], [1, 1], {}, {1: 1, 0: 1}, "11", ((), ()), ((1, 1),)]
+    parts = [True, False, None, "", "1", (), (1,), [], [1], {}, {1: 1}]
+    values += [(part, 1) for part in parts] + [(1, part) for part in parts] + [(None, None), (1, True), (True, 1)]
+    values += [(PART + 1, 1), (-PART - 1, 1), (1, 0), (0, 0), (1, -1), (1, PART + 1), (1, -PART), (1, prime), (0, prime)]
+    return values + [(prime, prime), (1, prime ** 20), (1, prime * (PART // prime)), (10 ** 90, 1), (1, 10 ** 90)]

@@ -8,35 +8,12 @@ from math import gcd
 from taprows.carries import (carry_product, carry_quotient, carry_sum, fraction_period, fraction_row, long_lows,
                              number_row, repeated_fraction, row_number)
 from taprows.errors import BadBlock, BadFraction, BadNumber, BadPrime, BadRow, OtherSize, ZeroDivisor
-from tests.support import (PRIMES, WRONG_PRIMES, all_rows, check_wrong, error_of, most_of, random_row, row_repeats,
-                           wrong_blocks, wrong_integers, wrong_rows)
+from tests.support import (PART, PRIMES, WRONG_PRIMES, all_rows, check_wrong, coprime, error_of, figures, most_of,
+                           random_row, row_repeats, slow_row, value_of, wrong_blocks, wrong_fractions, wrong_integers,
+                           wrong_rows)
 
 MOST = 10 ** 120
-PART = 10 ** 60
 SMALL = {2: 6, 3: 4, 5: 2, 7: 2}
-
-
-def value_of(prime, row):
-    return sum(number * prime ** at for at, number in enumerate(row))
-
-
-def figures(prime, number, count):
-    """The figures of the integer from 0 on that is the number up to a multiple of the power."""
-    number %= prime ** count
-    row = []
-    for _ in range(count):
-        number, figure = divmod(number, prime)
-        row.append(figure)
-    return tuple(row)
-
-
-def slow_row(prime, above, low, count):
-    """The row of a fraction, by the inverse of low."""
-    return figures(prime, above * pow(low, -1, prime ** count), count)
-
-
-def coprime(prime, numbers):
-    return [number for number in numbers if number % prime]
 
 
 class Figures(unittest.TestCase):
@@ -143,14 +120,6 @@ class TwoRows(unittest.TestCase):
             for function in (carry_sum, carry_product, carry_quotient):
                 wrong = [(BadPrime, WRONG_PRIMES), (BadRow, wrong_rows(prime)), (BadRow, wrong_rows(prime))]
                 check_wrong(self, function, (prime, (1, 0), (1, 1)), wrong)
-
-
-def wrong_fractions(prime):
-    values = [0, 1, "", "1/3", True, False, None, (), (1,), (1, 1, 1), [], [1, 1], {}, {1: 1, 0: 1}, "11", ((), ()), ((1, 1),)]
-    parts = [True, False, None, "", "1", (), (1,), [], [1], {}, {1: 1}]
-    values += [(part, 1) for part in parts] + [(1, part) for part in parts] + [(None, None), (1, True), (True, 1)]
-    values += [(PART + 1, 1), (-PART - 1, 1), (1, 0), (0, 0), (1, -1), (1, PART + 1), (1, -PART), (1, prime), (0, prime)]
-    return values + [(prime, prime), (1, prime ** 20), (1, prime * (PART // prime)), (10 ** 90, 1), (1, 10 ** 90)]
 
 
 class Fractions(unittest.TestCase):

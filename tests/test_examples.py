@@ -90,6 +90,32 @@ raises InvalidText(place=2)
 >>> [fraction_row(2, (1, 3), 6), repeated_fraction(2, (1,), (1, 0)), fraction_period(2, (1, 3)), fraction_period(7, (-2, 4)), long_lows(2, 20)]
 [(1, 1, 0, 1, 0, 1), (1, 3), (1, 2), (0, 1), [3, 5, 11, 13, 19]]
 ''',
+    "taprows/carryruns.py": '''
+>>> from taprows.carryruns import carry_fraction, carry_register, carry_run, carry_span, least_fraction
+>>> [carry_run(2, (0, 1), (1, 1), 0, 6), carry_run(2, (0, 1), (1, 0), 1, 7), carry_fraction(2, (0, 1), (1, 0), 1), carry_run(2, (), (), 6, 5)]
+[(1, 1, 1, 1, 1, 1), (1, 0, 0, 1, 0, 1, 0), (-5, 3), (0, 1, 1, 0, 0)]
+>>> [least_fraction(2, (1, 1, 0, 1, 0, 1)), carry_span(2, (1, 1, 0, 1, 0, 1)), least_fraction(3, (0, 0)), carry_span(5, ())]
+[(1, 3), 3, (0, 1), 1]
+''',
+    "taprows/wirings.py": '''
+>>> from taprows.wirings import from_other, leap_rows, other_after, other_run, to_other
+>>> [other_run(2, (1, 1), (0, 1), 5), to_other(3, (1, 2), (1, 1)), from_other(3, (1, 2), (1, 0)), leap_rows(5, (1, 1), 3), other_after(7, (1, 1), (0, 1), 16)]
+[(0, 1, 1, 0, 1), (1, 0), (1, 1), ((1, 2), (2, 3)), (0, 1)]
+''',
+    "taprows/common.py": '''
+>>> from taprows.common import common_bound, common_length, common_taps, shows_common_bound
+>>> rows = ((0, 1, 1, 0), (1, 1, 1))
+>>> [common_length(2, rows), common_taps(2, ((0, 1, 1, 0), (1, 1, 0))), common_bound(2, rows, 3), shows_common_bound(2, ((0, 1), (1, 1)), 1, ((1,), (0,))), common_length(3, ((),))]
+[3, (1, 1), None, True, 0]
+''',
+    "taprows/clocked.py": '''
+>>> from taprows.clocked import run_counts, shrunk, stepped, voted, word_counts
+>>> one, other = ((1, 1), (0, 1)), ((0, 1), (1, 0))
+>>> [shrunk(one, other, 5), stepped(one, other, 6), voted(one, other, ((1,), (1,)), 4), shrunk(one, ((), ()), 3)]
+[(0, 1, 1, 0, 1), (0, 1, 1, 1, 1, 0), (1, 1, 1, 0), ()]
+>>> [run_counts(2, (0, 1, 1, 0)), run_counts(3, (2, 2)), word_counts(2, 1, (0, 1, 1)), word_counts(2, 2, (0, 1))]
+[[(0, 2, 1), (1, 2, 1)], [], [((0,), 1), ((1,), 2)], [((0, 1), 1), ((1, 0), 1)]]
+''',
 }
 
 

@@ -40,6 +40,15 @@ FUNCTIONS = {
                 "carry_product(prime, one, other)", "carry_quotient(prime, one, other)",
                 "fraction_row(prime, fraction, count)", "repeated_fraction(prime, ahead, block)",
                 "fraction_period(prime, fraction)", "long_lows(prime, most)"],
+    "carryruns": ["carry_run(prime, taps, start, carry, count)", "carry_fraction(prime, taps, start, carry)",
+                  "carry_register(prime, fraction)", "least_fraction(prime, row)", "carry_span(prime, row)"],
+    "wirings": ["other_run(prime, taps, start, count)", "to_other(prime, taps, start)",
+                "from_other(prime, taps, state)", "other_after(prime, taps, state, steps)",
+                "leap_rows(prime, taps, steps)"],
+    "common": ["common_length(prime, rows)", "common_taps(prime, rows)", "common_bound(prime, rows, length)",
+               "shows_common_bound(prime, rows, length, value)"],
+    "clocked": ["shrunk(one, other, count)", "stepped(one, other, count)", "voted(one, two, three, count)",
+                "run_counts(prime, block)", "word_counts(prime, size, block)"],
 }
 WITHOUT_FIELDS = """BadPrime BadRow BadPolynomial BadNumber BadTaps BadStart ZeroDivisor NotText BadLengths BadBlock
 NotUnit BadRegister BadBits BadSize BadTable NotOneToOne BadTerms BadFraction OtherSize BadPlaces BadSums BadName BadField
