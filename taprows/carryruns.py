@@ -111,11 +111,10 @@ def _reduced(one, other):
 def _nearest(pair, step):
     """The pair of the least size that comes from a pair by taking away a multiple of a step.
 
-    The size is convex in the multiple, and straight between those multiples for which an integer
-    of the pair is 0 or both are equal but for the sign: so the least one is beside one of these.
+    The size is convex in the multiple, and among all fractions it is least at one for which both
+    integers of the pair are equal but for the sign: so the least one is beside one of these.
     """
-    places = [(pair[0], step[0]), (pair[1], step[1])]
-    places += [(pair[0] - pair[1], step[0] - step[1]), (pair[0] + pair[1], step[0] + step[1])]
+    places = [(pair[0] - pair[1], step[0] - step[1]), (pair[0] + pair[1], step[0] + step[1])]
     beside = [above // low for above, low in places if low != 0]
     found = [_less(pair, step, many) for many in beside] + [_less(pair, step, many + 1) for many in beside]
     return min(found, key=_size)

@@ -29,6 +29,11 @@ def are_numbers(prime, value, most):
     return all([is_between(number, 0, prime - 1) for number in value])
 
 
+def ascends(values):
+    """Whether each value of a list or tuple is greater than the one ahead of it."""
+    return all([one < other for one, other in zip(values, values[1:])])
+
+
 def check_prime(value):
     if not is_between(value, 2, 7) or value not in PRIMES:
         raise BadPrime("a prime is one of 2, 3, 5, 7")

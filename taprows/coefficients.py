@@ -11,6 +11,11 @@ def trimmed(numbers):
     return tuple(numbers[:end])
 
 
+def padded(numbers, size):
+    """The first so many numbers of a polynomial, zeros at the end included."""
+    return (tuple(numbers) + (0,) * size)[:size]
+
+
 def sum_of(prime, a, b):
     size = max(len(a), len(b))
     left = list(a) + [0] * (size - len(a))

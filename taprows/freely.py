@@ -1,7 +1,7 @@
 """Free registers: rows and states by tables (points 23 to 26)."""
 
 from taprows.checks import MOST_NUMBERS, check_number, check_prime, check_row, check_size, check_state, check_table
-from taprows.checks import is_between
+from taprows.checks import ascends, is_between
 from taprows.errors import BadTerms, NotOneToOne
 from taprows.integers import power_of
 from taprows.recurrence import next_number
@@ -151,18 +151,14 @@ def _ones_of(state):
 
 
 def _check_terms(size, value):
-    if not isinstance(value, tuple) or not all([_is_term(size, term) for term in value]) or not _ascends(value):
+    if not isinstance(value, tuple) or not all([_is_term(size, term) for term in value]) or not ascends(value):
         raise BadTerms("terms are an ascending tuple of different terms")
 
 
 def _is_term(size, value):
     if not isinstance(value, tuple) or not all([is_between(at, 0, size - 1) for at in value]):
         return False
-    return _ascends(value)
-
-
-def _ascends(values):
-    return all([one < other for one, other in zip(values, values[1:])])
+    return ascends(value)
 
 
 def _least_size(row):

@@ -2,8 +2,8 @@
 
 from math import lcm
 
-from taprows.coefficients import common_divisor, derivative, monic, power_rest_of, quotient_and_rest, rest_of, sum_of
-from taprows.coefficients import trimmed
+from taprows.coefficients import common_divisor, derivative, monic, padded, power_rest_of, quotient_and_rest, rest_of
+from taprows.coefficients import sum_of, trimmed
 from taprows.integers import power_of, prime_divisors
 from taprows.linear import zero_sums
 
@@ -42,9 +42,17 @@ def order_of(prime, a):
 
 def whole_order(prime, factor):
     """The order of a polynomial that cannot be split, other than x."""
+    return order_in(prime, factor, (0, 1))
+
+
+def order_in(prime, factor, a):
+    """The least exponent from 1 on with which the power of a polynomial has the rest of 1 by a factor.
+
+    The factor cannot be split and does not divide the polynomial.
+    """
     exponent = power_of(prime, len(factor) - 1) - 1
     for divisor in prime_divisors(exponent):
-        while exponent % divisor == 0 and gives_one(prime, factor, exponent // divisor):
+        while exponent % divisor == 0 and power_rest_of(prime, a, exponent // divisor, factor) == (1,):
             exponent = exponent // divisor
     return exponent
 
@@ -98,9 +106,7 @@ def _parts_of(prime, a):
 
 def _frobenius_less(prime, a, place):
     """The rest of x ** (prime * place) less x ** place, as a list of as many numbers as the degree."""
-    size = len(a) - 1
-    power = power_rest_of(prime, (0, 1), prime * place, a)
-    numbers = list(power) + [0] * (size - len(power))
+    numbers = list(padded(power_rest_of(prime, (0, 1), prime * place, a), len(a) - 1))
     numbers[place] = (numbers[place] - 1) % prime
     return numbers
 

@@ -1,7 +1,7 @@
 """The other wiring of registers (point 33)."""
 
 from taprows.checks import MOST_NUMBERS, MOST_STEPS, check_number, check_prime, check_taps, check_wired
-from taprows.coefficients import power_rest_of, product_of, rest_of, trimmed
+from taprows.coefficients import padded, power_rest_of, product_of, rest_of, trimmed
 from taprows.recurrence import first_numbers, low_of, modulus_of
 
 
@@ -16,7 +16,7 @@ def to_other(prime, taps, start):
     """The state of the other wiring whose row is that of a register."""
     check_wired(prime, taps, start)
     # The numbers of the state are what is above in the fraction of the row.
-    return _padded(product_of(prime, start, low_of(prime, taps)), len(taps))
+    return padded(product_of(prime, start, low_of(prime, taps)), len(taps))
 
 
 def from_other(prime, taps, state):
@@ -33,7 +33,7 @@ def other_after(prime, taps, state, steps):
     # A step multiplies the state, read as a polynomial whose leading number comes first, by x.
     leap = power_rest_of(prime, (0, 1), steps, modulus)
     behind = rest_of(prime, product_of(prime, trimmed(state[::-1]), leap), modulus)
-    return _padded(behind, len(taps))[::-1]
+    return padded(behind, len(taps))[::-1]
 
 
 def leap_rows(prime, taps, steps):
@@ -45,7 +45,7 @@ def leap_rows(prime, taps, steps):
     weights = power_rest_of(prime, (0, 1), steps, modulus)
     rows = []
     for _ in taps:
-        rows.append(_padded(weights, len(taps)))
+        rows.append(padded(weights, len(taps)))
         weights = rest_of(prime, (0,) + weights, modulus)
     return tuple(rows)
 
@@ -57,8 +57,3 @@ def _row_start(prime, taps, state):
         told = sum([taps[back] * row[at - 1 - back] for back in range(at)])
         row.append((number + told) % prime)
     return tuple(row)
-
-
-def _padded(numbers, size):
-    """The first so many numbers of a polynomial, zeros at the end included."""
-    return (tuple(numbers) + (0,) * size)[:size]

@@ -1,6 +1,7 @@
 """Slow ways of computing what the package computes, and values that are not let."""
 
 from copy import deepcopy
+from functools import lru_cache
 from itertools import product
 
 PRIMES = (2, 3, 5, 7)
@@ -334,3 +335,79 @@ def wrong_fractions(prime):
     values += [(part, 1) for part in parts] + [(1, part) for part in parts] + [(None, None), (1, True), (True, 1)]
     values += [(PART + 1, 1), (-PART - 1, 1), (1, 0), (0, 0), (1, -1), (1, PART + 1), (1, -PART), (1, prime), (0, prime)]
     return values + [(prime, prime), (1, prime ** 20), (1, prime * (PART // prime)), (10 ** 90, 1), (1, 10 ** 90)]
+
+
+# Fields of a prime's power.
+
+@lru_cache(None)
+def slow_whole(prime, degree):
+    """The ascending list of the polynomials of a degree with the leading number 1 that cannot be split, by all products."""
+    parts = [[a + (1,) for a in all_rows(prime, size)] for size in range(degree)]
+    split = {slow_product(prime, a, b) for size in range(1, degree // 2 + 1) for a in parts[size] for b in parts[degree - size]}
+    return [a + (1,) for a in all_rows(prime, degree) if a + (1,) not in split]
+
+
+def field_product(prime, low, a, b):
+    return slow_rest(prime, slow_product(prime, a, b), low)
+
+
+def field_power(prime, low, a, exponent):
+    """The power of an element with an exponent from 0 on, factor by factor."""
+    power = (1,)
+    for _ in range(exponent):
+        power = field_product(prime, low, power, a)
+    return power
+
+
+def images(prime, low, a):
+    """The powers with the exponents 1, prime, prime ** 2, .., as many as the degree."""
+    found = [a]
+    while len(found) < len(low) - 1:
+        found.append(field_power(prime, low, found[-1], prime))
+    return found
+
+
+def slow_trace(prime, low, a):
+    """The sum of the images, a number."""
+    total = ()
+    for image in images(prime, low, a):
+        total = slow_sum(prime, total, image)
+    assert len(total) <= 1
+    return total[0] if total else 0
+
+
+def field_elements(prime, low):
+    """All elements of a field, in the order of the sums of their numbers times prime ** index."""
+    return [cut(numbers[::-1]) for numbers in all_rows(prime, len(low) - 1)]
+
+
+# Field polynomials of each degree that is let, the greatest ones included.
+SOME_FIELDS = {
+    2: [(0, 1), (1, 1), (1, 1, 1), (1, 0, 1, 1), (1, 1, 1, 1, 1), (1, 1, 0, 0, 1), (1, 0, 1, 0, 0, 1), (1, 0, 0, 1, 0, 0, 1),
+        (1, 1, 0, 1, 1, 0, 0, 0, 1), (1, 0, 0, 1, 0, 0, 0, 0, 0, 0, 0, 0, 1), (1, 1, 0, 0, 1, 0, 1, 0, 0, 0, 0, 0, 1)],
+    3: [(0, 1), (1, 1), (2, 1), (1, 0, 1), (2, 1, 1), (1, 2, 0, 1), (2, 1, 0, 0, 1), (1, 0, 2, 0, 0, 0, 0, 1)],
+    5: [(0, 1), (3, 1), (2, 0, 1), (1, 1, 1), (2, 3, 0, 1), (1, 4, 0, 0, 0, 1)],
+    7: [(0, 1), (4, 1), (1, 0, 1), (3, 1, 1), (2, 0, 0, 1), (3, 1, 0, 1, 1)],
+}
+
+
+def wrong_fields(prime):
+    """Values that are no field polynomials."""
+    whole = SOME_FIELDS[prime][-1]
+    greatest = {2: 12, 3: 7, 5: 5, 7: 4}[prime]
+    values = wrong_tuples(prime) + [(), (1,), (0, 0, 1), (0, 1, 1), (1, 2 % prime, 1), (0,) * greatest + (1,), whole + (0,)]
+    values += [slow_product(prime, (1, 1), (prime - 1, 1)), slow_product(prime, (0, 1), SOME_FIELDS[prime][2])]
+    # Degrees that are too great, of polynomials that cannot be split.
+    values += {2: [(1, 1, 0, 1, 1) + (0,) * 8 + (1,), (1,) * 19], 3: [(2, 0, 0, 1, 0, 0, 0, 0, 1)],
+               5: [(2, 1, 0, 0, 0, 0, 1)], 7: [(3, 6, 0, 0, 0, 1)]}[prime]
+    if prime > 2:
+        # Another leading number.
+        values += [(0, 2), (1, 2), (1, prime - 1), tuple(2 * number % prime for number in SOME_FIELDS[prime][3])]
+    return values
+
+
+def wrong_elements(prime, low):
+    """Values that are no elements of a field."""
+    size = len(low) - 1
+    values = [low, (0,) * size + (1,), (1,) * (size + 1), (0,), (0,) * size, (1,) + (0,) * size, (1,) * 300]
+    return wrong_tuples(prime) + values + [(1,) * at + (0,) for at in range(1, size)]

@@ -116,6 +116,40 @@ raises InvalidText(place=2)
 >>> [run_counts(2, (0, 1, 1, 0)), run_counts(3, (2, 2)), word_counts(2, 1, (0, 1, 1)), word_counts(2, 2, (0, 1))]
 [[(0, 2, 1), (1, 2, 1)], [], [((0,), 1), ((1,), 2)], [((0, 1), 1), ((1, 0), 1)]]
 ''',
+    "taprows/filters.py": '''
+>>> from taprows.filters import farness, filter_bound, filtered, from_sums, immunity, nearest_sums, table_sums, term_degree
+>>> [filtered(((1, 1), (0, 1)), 2, (0, 0, 0, 1), (0, 1), 6), term_degree(2, (1, 0, 0, 1)), filter_bound(4, 2), table_sums(2, (0, 0, 0, 1)), from_sums(1, (0, 2))]
+[(0, 1, 0, 0, 1, 0), 1, 11, (2, 2, 2, -2), (0, 1)]
+>>> [farness(2, (0, 0, 0, 1)), nearest_sums(1, (1, 0)), immunity(2, (0, 1, 1, 0)), immunity(1, (0, 0)), immunity(2, (0, 0, 0, 1))]
+[1, [((1,), 1)], 1, 1, 0]
+''',
+    "taprows/sessions.py": '''
+>>> from taprows.sessions import Session
+>>> session = Session(2)
+>>> told = session.run("let fib 11 01\\nrun fib 6\\n\\nlet one 1 1\\nadd fib one c\\nperiod c\\nlength fib\\ndrop one")
+>>> [told, session.names(), session.register_of("c"), session.trial("run c 4"), session.undo(), session.names()]
+[[2, '011011', 1, 3, (0, 3), 2, None], ('c', 'fib'), ((0, 0, 1), (1, 0, 0)), ['1001'], True, ()]
+''',
+    "taprows/sessions.py, 2": '''
+>>> from taprows.sessions import Session
+>>> Session(3).run("let a 12 0\\n")
+raises InvalidCommand(line=1, column=10)
+''',
+    "taprows/extensions.py": '''
+>>> from taprows.extensions import element_inverse, element_order, element_power, element_product, generator, logarithm, minimal_polynomial, norm, trace
+>>> low = (1, 0, 1)
+>>> [element_product(3, low, (0, 1), (0, 1)), element_inverse(3, low, (1, 1)), element_power(3, low, (1, 1), -2), element_order(3, low, (0, 1)), trace(3, low, (1, 1)), norm(3, low, (1, 1))]
+[(2,), (2, 1), (0, 1), 4, 2, 2]
+>>> [minimal_polynomial(3, low, (1, 1)), minimal_polynomial(3, low, ()), generator(3, low), logarithm(3, low, (1, 1), (2,)), logarithm(3, low, (2,), (0, 1))]
+[(2, 1, 1), (0, 1), (1, 1), 4, None]
+''',
+    "taprows/traces.py": '''
+>>> from taprows.traces import trace_parts, trace_row, turned_rings, wide_block, wide_spectrum
+>>> [trace_row(2, (((1, 1), (1,)), ((1, 1, 1), (0, 1))), 6), trace_parts(2, (1, 1), (0, 1)), trace_parts(5, (3,), (2,)), trace_parts(2, (), ())]
+[(0, 0, 1, 0, 0, 1), (((1, 1, 1), (1,)),), (((2, 1), (2,)),), ()]
+>>> [wide_spectrum(2, (0, 1, 1)), wide_block(2, ((), (1,), (1,))), turned_rings(2, 7), wide_spectrum(5, (1,))]
+[((1, 1, 1), ((), (1,), (1,))), (0, 1, 1), [(0,), (1, 2, 4), (3, 6, 5)], ((2, 1), ((1,),))]
+''',
 }
 
 

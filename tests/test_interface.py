@@ -49,7 +49,17 @@ FUNCTIONS = {
                "shows_common_bound(prime, rows, length, value)"],
     "clocked": ["shrunk(one, other, count)", "stepped(one, other, count)", "voted(one, two, three, count)",
                 "run_counts(prime, block)", "word_counts(prime, size, block)"],
+    "filters": ["filtered(wired, size, table, places, count)", "term_degree(size, table)", "filter_bound(length, degree)",
+                "table_sums(size, table)", "from_sums(size, values)", "farness(size, table)", "nearest_sums(size, table)",
+                "immunity(size, table)"],
+    "extensions": ["element_product(prime, low, a, b)", "element_inverse(prime, low, a)",
+                   "element_power(prime, low, a, exponent)", "generator(prime, low)", "minimal_polynomial(prime, low, a)",
+                   "element_order(prime, low, a)", "trace(prime, low, a)", "norm(prime, low, a)",
+                   "logarithm(prime, low, base, a)"],
+    "traces": ["trace_row(prime, parts, count)", "trace_parts(prime, taps, start)", "wide_spectrum(prime, block)",
+               "wide_block(prime, entries)", "turned_rings(prime, size)"],
 }
+METHODS = ["run(self, text)", "trial(self, text)", "names(self)", "register_of(self, name)", "undo(self)"]
 WITHOUT_FIELDS = """BadPrime BadRow BadPolynomial BadNumber BadTaps BadStart ZeroDivisor NotText BadLengths BadBlock
 NotUnit BadRegister BadBits BadSize BadTable NotOneToOne BadTerms BadFraction OtherSize BadPlaces BadSums BadName BadField
 BadElement NotSingle BadSpectrum""".split()
@@ -68,6 +78,15 @@ class Interface(unittest.TestCase):
                 function = getattr(found, text.partition("(")[0])
                 self.assertEqual(f"{function.__name__}{inspect.signature(function)}", text)
                 self.assertEqual(function.__module__, f"taprows.{module}")
+
+    def test_sessions(self):
+        found = import_module("taprows.sessions").Session
+        self.assertEqual(found.__module__, "taprows.sessions")
+        self.assertEqual(str(inspect.signature(found)), "(prime)")
+        for text in METHODS:
+            # In the class itself, not only in a base class.
+            method = vars(found)[text.partition("(")[0]]
+            self.assertEqual(f"{method.__name__}{inspect.signature(method)}", text)
 
     def test_base_class(self):
         self.assertEqual(errors.RowsError.__bases__, (ValueError,))
